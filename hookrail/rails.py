@@ -18,9 +18,13 @@ def is_errand(home, last, boxes):
     return all([is_box(box) for box in boxes])
 
 
-def stops(home, last, boxes):
+def check_errand(home, last, boxes):
     if not is_errand(home, last, boxes):
         raise NoErrand("home and last must be places, and boxes a list of tuples of two places")
+
+
+def stops(home, last, boxes):
+    check_errand(home, last, boxes)
     places = [home, last]
     for box in boxes:
         places.extend(box)
@@ -30,3 +34,7 @@ def stops(home, last, boxes):
 def gaps(home, last, boxes):
     places = stops(home, last, boxes)
     return list(zip(places, places[1:]))
+
+
+def gap_edges(home, last, boxes):
+    return [(gap[0], gap[1], gap[1] - gap[0]) for gap in gaps(home, last, boxes)]

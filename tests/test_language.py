@@ -31,6 +31,19 @@ NODES_OUT = (
 )
 
 
+WALKED_AT_ONCE = {"zip", "enumerate", "reversed", "range"}
+WALKED_METHODS = {"items", "keys", "values"}
+WALKERS = {"list", "tuple", "dict", "sorted", "sum", "any", "all", "enumerate", "zip", "min", "max"}
+
+
+def name_called(node):
+    return node.func.id if isinstance(node, ast.Call) and isinstance(node.func, ast.Name) else None
+
+
+def parents_of(tree):
+    return {child: node for node in ast.walk(tree) for child in ast.iter_child_nodes(node)}
+
+
 def python_own_attributes():
     names = set()
     for kind in (str, int, list, tuple, dict, set, frozenset, bytes):
@@ -106,6 +119,69 @@ class Language(unittest.TestCase):
                 self.assertFalse(node.arg.startswith("_") or hasattr(builtins, node.arg), where)
             if isinstance(node, ast.Attribute) and node.attr in own_attributes:
                 self.assertIn(node.attr, METHODS, where)
+
+    def test_names_are_drawn_from_the_file_that_defines_them(self):
+        drawn = {}
+        for path in FILES:
+            tree = ast.parse(path.read_text(encoding="utf-8"))
+            rows = [node for node in tree.body if isinstance(node, ast.ImportFrom) and node.module != "__future__"]
+            drawn[path.stem] = [node.module.split(".")[1] for node in rows]
+            for node in rows:
+                source = ast.parse((PACKAGE / (node.module.split(".")[1] + ".py")).read_text(encoding="utf-8"))
+                defined = [one.name for one in source.body if isinstance(one, (ast.FunctionDef, ast.ClassDef))]
+                for alias in node.names:
+                    self.assertIn(alias.name, defined, f"{path.name}:{node.lineno}")
+        while drawn:
+            free = [name for name in drawn if not set(drawn[name]) & set(drawn)]
+            self.assertTrue(free, f"these draw from one another: {sorted(drawn)}")
+            for name in free:
+                drawn.pop(name)
+
+    def test_no_local_is_called_like_an_import_or_a_class(self):
+        for path in FILES:
+            tree = ast.parse(path.read_text(encoding="utf-8"))
+            taken = [node.name for node in tree.body if isinstance(node, ast.ClassDef)]
+            for node in tree.body:
+                if isinstance(node, ast.ImportFrom):
+                    taken += [alias.asname or alias.name for alias in node.names]
+            for node in ast.walk(tree):
+                if isinstance(node, ast.arg):
+                    self.assertNotIn(node.arg, taken, f"{path.name}:{node.lineno}")
+                if isinstance(node, ast.Name) and isinstance(node.ctx, ast.Store):
+                    self.assertNotIn(node.id, taken, f"{path.name}:{node.lineno}")
+
+    def test_is_stands_beside_none_and_truths(self):
+        for where, node in self.walk():
+            if isinstance(node, ast.Compare) and any(isinstance(sign, (ast.Is, ast.IsNot)) for sign in node.ops):
+                self.assertTrue(any(
+                    isinstance(side, ast.Constant) and side.value in (None, True, False) for side in node.comparators
+                ), where)
+
+    def test_walked_at_once(self):
+        for path in FILES:
+            tree = ast.parse(path.read_text(encoding="utf-8"))
+            parents = parents_of(tree)
+            for node in ast.walk(tree):
+                own = name_called(node) in WALKED_AT_ONCE
+                method = isinstance(node, ast.Call) and isinstance(node.func, ast.Attribute)
+                if own or method and node.func.attr in WALKED_METHODS:
+                    parent = parents[node]
+                    walked = isinstance(parent, (ast.For, ast.comprehension)) and parent.iter is node
+                    joined = isinstance(parent, ast.Call) and isinstance(parent.func, ast.Attribute)
+                    joined = joined and parent.func.attr == "join"
+                    self.assertTrue(walked or joined or name_called(parent) in WALKERS, f"{path.name}:{node.lineno}")
+
+    def test_sets_are_not_kept(self):
+        for path in FILES:
+            tree = ast.parse(path.read_text(encoding="utf-8"))
+            parents = parents_of(tree)
+            for node in ast.walk(tree):
+                if name_called(node) in ("set", "frozenset") or isinstance(node, ast.Set):
+                    parent = parents[node]
+                    while isinstance(parent, ast.BinOp):
+                        parent = parents[parent]
+                    fits = isinstance(parent, ast.Compare) or name_called(parent) in ("sorted", "len")
+                    self.assertTrue(fits, f"{path.name}:{node.lineno}")
 
 
 if __name__ == "__main__":

@@ -4,11 +4,7 @@ import unittest
 from hookrail import errors
 from hookrail.counts import lacks
 from hookrail.rails import gaps, is_errand, stops
-from samples import FAR, seventy_boxes, small_errands, wrong_errands
-
-OTHER_REFUSALS = (
-    errors.NoRow, errors.NoReason, errors.NoYard, errors.NoRing, errors.NoText, errors.NoWord, errors.NoBox,
-)
+from samples import FAR, check_refused, seventy_boxes, small_errands, wrong_errands
 
 
 class WhatIsAnErrand(unittest.TestCase):
@@ -119,11 +115,7 @@ class Refused(unittest.TestCase):
         for ask in (stops, gaps, lacks):
             for errand in wrong_errands():
                 with self.subTest(ask=ask.__name__, errand=errand):
-                    with self.assertRaises(errors.NoErrand) as caught:
-                        ask(*errand)
-                    self.assertIsInstance(caught.exception, errors.RailError)
-                    self.assertIsInstance(caught.exception, ValueError)
-                    self.assertNotIsInstance(caught.exception, OTHER_REFUSALS)
+                    check_refused(self, errors.NoErrand, ask, *errand)
 
     def test_what_is_refused_stays_as_it_was(self):
         for errand in wrong_errands():
