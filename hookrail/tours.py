@@ -13,15 +13,17 @@ def is_go(thing):
     return is_whole(thing[1]) and is_whole(thing[2]) and thing[1] != thing[2]
 
 
-def is_carry(thing, boxes):
+def has_carry_form(thing, boxes):
     if not isinstance(thing, tuple) or len(thing) != 4 or thing[0] != "box":
         return False
     if not all([is_whole(part) for part in thing[1:]]):
         return False
     # Python would take a number below 0 as one counted from the end.
-    if thing[1] < 0 or thing[1] >= len(boxes):
-        return False
-    return thing[2:] == boxes[thing[1]]
+    return thing[1] >= 0 and thing[1] < len(boxes)
+
+
+def is_carry(thing, boxes):
+    return has_carry_form(thing, boxes) and thing[2:] == boxes[thing[1]]
 
 
 def is_move(thing, boxes):

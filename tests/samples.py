@@ -129,3 +129,99 @@ def far_errands():
     yield (0, 0, [(number, -number) for number in range(70)])
     yield (0, 3, [(2 * number, 2 * number + 1) for number in range(70)])
     yield from scattered_errands()
+
+
+def wrong_in_the_place_of(part):
+    """Things of another form than a part of a reason or of a list of moves, wherever it stands there."""
+    if isinstance(part, str):
+        return [None, True, 0, "", part.upper(), part + " ", "carry", [part], (part,)]
+    if is_whole(part):
+        return [bool(part), not part, None, "", str(part), [], (), [part], (part,)]
+    if isinstance(part, list):
+        return [
+            tuple(part), [part], (part,), None, True, False, 0, "", repr(part), part + [None], [None] + part,
+            part + [True], part + [()], part + [[]], part + (part or [None])[:1],
+        ]
+    return [
+        list(part), [part], (part,), (), part[1:], part[:-1], part + (None,), (None,) + part, part + part[-1:],
+        part + ([],), None, True, False, 0, "", repr(part),
+    ]
+
+
+def spoilt(thing):
+    """A thing with one part of it, at any depth, of a wrong form."""
+    yield from wrong_in_the_place_of(thing)
+    if isinstance(thing, (list, tuple)):
+        for number, part in enumerate(thing):
+            for other in spoilt(part):
+                changed = list(thing)
+                changed[number] = other
+                yield changed if isinstance(thing, list) else tuple(changed)
+
+
+def wrong_yards():
+    for thing in NO_PLACES:
+        yield (thing, [(1, 2)])
+        yield (thing, [])
+    for thing in NO_LISTS:
+        yield (0, thing)
+    for thing in NO_BOXES + [(-1, 4), (4, -1), (-1, -1), (-FAR, FAR), (FAR, -FAR)]:
+        yield (0, [thing])
+        yield (0, [thing, (1, 2)])
+        yield (0, [(1, 2), thing, (3, 4)])
+        yield (0, [(1, 2), (3, 4), thing])
+    yield (5, [(4, 4)])
+    yield (5, [(5, 6), (6, 4)])
+    yield (-4, [(-5, -3)])
+    yield (FAR, [(FAR, FAR - 1)])
+
+
+def small_yards():
+    """Every yard of at most two boxes on four places about the mark, the gate the least of them or left of all."""
+    places = [-3, 0, 1, 5]
+    pairs = list(itertools.product(places, places))
+    for gate in (-3, -5):
+        yield (gate, [])
+        for one in pairs:
+            yield (gate, [one])
+            for other in pairs:
+                yield (gate, [one, other])
+
+
+def mixed_yards(seed, count, most, reach):
+    """Yards of at most so many boxes, with the gate among their places or left of all."""
+    for number, (home, last, boxes) in enumerate(mixed_errands(seed, count, most, reach)):
+        places = [place for box in boxes for place in box]
+        more = home if number % 2 else -reach
+        yield (min(places + [more]), boxes)
+
+
+def three_box_yards(seed, count):
+    """Yards of just three boxes, few enough to try every way of doing them."""
+    chance = random.Random(seed)
+    for number in range(count):
+        boxes = [(chance.randint(1, 9), chance.randint(1, 9)) for _ in range(3)]
+        yield (chance.randint(-2, 1), boxes)
+
+
+def nested_boxes():
+    """Pairs of boxes there and back, each within the next: every pair hangs apart from all others."""
+    boxes = []
+    for number in range(35):
+        boxes.extend([(number, 200 - number), (200 - number, number)])
+    return boxes
+
+
+def far_yards():
+    """Yards with seventy boxes and with the farthest places."""
+    for home, last, boxes in far_errands():
+        yield (min([place for box in boxes for place in box] + [home, last]), boxes)
+        yield (-FAR, boxes)
+    yield (0, nested_boxes())
+    yield (-1, list(reversed(nested_boxes())))
+    yield (0, [(number, number + 71) for number in range(70)])
+    yield (0, [(number + 71, number) for number in range(70)])
+    # Each box that is carried over a pair of others goes over the next pair too, so it is set down often.
+    yield (0, [(0, 200), (200, 0)] + [(k, k + 1) for k in range(1, 68, 2)] + [(k + 1, k) for k in range(1, 68, 2)])
+    yield (-FAR, [(-FAR, -FAR)] * 70)
+    yield (FAR, [])

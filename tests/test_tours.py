@@ -1,11 +1,11 @@
 import copy
-import heapq
 import itertools
 import unittest
 
 from hookrail import errors
 from hookrail.rails import gaps, stops
 from hookrail.tours import is_tour, length, tour
+from oracles import least_by_search, net_lacks, spread
 from samples import (
     FAR, NO_PLACES, check_own_lists, check_refused, far_errands, is_whole, mixed_errands, small_errands,
     wrong_errands,
@@ -255,26 +255,6 @@ class Length(unittest.TestCase):
         self.assertEqual(moves, TOUR)
 
 
-def net_lacks(home, last, boxes):
-    """The lack of each gap, by what lies left of it and what does not."""
-    told = []
-    for left, right in gaps(home, last, boxes):
-        ways = [(goal, start) for start, goal in boxes] + [(home, last)]
-        told.append(sum((start <= left) - (goal <= left) for start, goal in ways))
-    return told
-
-
-def spread(marks, ties):
-    changed = True
-    while changed:
-        changed = False
-        for one, other in ties:
-            least = min(marks[one], marks[other])
-            if marks[one] != least or marks[other] != least:
-                marks[one] = marks[other] = least
-                changed = True
-
-
 def wanted_crossings(home, last, boxes):
     """How often the told tour goes empty over each gap, to the right and to the left, by the words of promise 16."""
     rail = gaps(home, last, boxes)
@@ -300,22 +280,6 @@ def empty_crossings(rail, moves):
                 if low <= gap[0] and gap[1] <= high:
                     told[gap][move[1] > move[2]] += 1
     return told
-
-
-def least_by_search(home, last, boxes):
-    """The least length of any tour, by trying whatever the hook can do, the nearest first."""
-    reached = {}
-    waiting = [(0, home, 0)]
-    while waiting:
-        way, here, done = heapq.heappop(waiting)
-        if (here, done) in reached:
-            continue
-        reached[(here, done)] = way
-        for number, (start, goal) in enumerate(boxes):
-            if not done >> number & 1:
-                heapq.heappush(waiting, (way + abs(start - here) + abs(goal - start), goal, done | 1 << number))
-    every = (1 << len(boxes)) - 1
-    return min(way + abs(last - here) for (here, done), way in reached.items() if done == every)
 
 
 class Tour(unittest.TestCase):
