@@ -41,3 +41,11 @@ def row_of(start, arcs):
     if len(row) != len(arcs):
         raise NoRow("the place and the places of all arcs must hang together by the arcs")
     return row
+
+
+def row_between(home, last, arcs):
+    # An arc from last back to home closes the row to a round. A round has no first arc,
+    # so it may be told from behind this arc on, and without it: from home to last.
+    row = row_of(home, arcs + [(last, home)])
+    cut = row.index(len(arcs))
+    return row[cut + 1:] + row[:cut]

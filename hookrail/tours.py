@@ -4,7 +4,7 @@ from hookrail.counts import lacks
 from hookrail.forest import forest
 from hookrail.groups import knots
 from hookrail.rails import check_errand, gap_edges, gaps, is_whole, stops
-from hookrail.rows import row_of
+from hookrail.rows import row_between
 
 
 def is_go(thing):
@@ -76,10 +76,5 @@ def move_along(number, arc, boxes):
 
 def tour(home, last, boxes):
     empty = lacking_arcs(home, last, boxes) + forest_arcs(home, last, boxes)
-    # An arc from last back to home closes the tour to a round. A round has no first arc,
-    # so it may be told from behind this arc on, and without it: from home to last.
-    closing = len(boxes)
-    arcs = boxes + [(last, home)] + empty
-    row = row_of(home, arcs)
-    cut = row.index(closing)
-    return [move_along(number, arcs[number], boxes) for number in row[cut + 1:] + row[:cut]]
+    arcs = boxes + empty
+    return [move_along(number, arcs[number], boxes) for number in row_between(home, last, arcs)]

@@ -225,3 +225,126 @@ def far_yards():
     yield (0, [(0, 200), (200, 0)] + [(k, k + 1) for k in range(1, 68, 2)] + [(k + 1, k) for k in range(1, 68, 2)])
     yield (-FAR, [(-FAR, -FAR)] * 70)
     yield (FAR, [])
+
+
+def wrong_sizes_and_places():
+    """A size, home and last of which one is none, or that don't go with one another."""
+    for thing in NO_PLACES:
+        yield (thing, 0, 0)
+        yield (5, thing, 0)
+        yield (5, 0, thing)
+    for size in (0, -1, -5, -FAR):
+        yield (size, 0, 0)
+        yield (size, size, size)
+        yield (size, size - 1, size - 1)
+    for size in (1, 5, FAR):
+        for place in (-FAR, -size, -1, size, size + 1, 2 * FAR):
+            yield (size, place, 0)
+            yield (size, 0, place)
+            yield (size, place, place)
+
+
+NO_RING_BOXES = (
+    NO_BOXES
+    + [(1, 2), [1, 2, 1], (1, 2, 1, 1), (1, 2, (1,)), ((1, 2), 1), ((1, 2, 1),), (1, 2, 1, None)]
+    + [(1, 2, way) for way in NO_PLACES + [0, 2, -2, 3, FAR, -FAR, "+", "-", "1"]]
+    + [(thing, 2, 1) for thing in NO_PLACES + [-1, 5, 6, FAR, -FAR]]
+    + [(1, thing, -1) for thing in NO_PLACES + [-1, 5, 6, FAR, -FAR]]
+    + [(-1, -1, 1), (5, 5, -1)]
+)
+
+
+def wrong_rings():
+    for size, home, last in wrong_sizes_and_places():
+        yield (size, home, last, [])
+        yield (size, home, last, [(0, 0, 1)])
+    for thing in NO_LISTS + [((1, 2, 1),), ((1, 2, 1), (3, 4, -1)), ([(1, 2, 1)],)]:
+        yield (5, 0, 4, thing)
+    for thing in NO_RING_BOXES:
+        yield (5, 0, 4, [thing])
+        yield (5, 0, 4, [thing, (1, 2, 1)])
+        yield (5, 0, 4, [(1, 2, 1), thing, (3, 4, -1)])
+        yield (5, 0, 4, [(1, 2, 1), (3, 4, -1), thing])
+
+
+NO_TEXTS = [
+    True, False, None, 0, 7, -1, [], (), ["rail", 0, 0], ("rail", 0, 0, []), ["rail 0 0"], ("rail 0 0",),
+    [[[[[["gate 0"]]]]]], ("gate", 0, []), ["least"], ("least",), [["text"]],
+]
+
+
+def small_rings():
+    """Every ring of at most three places and two boxes."""
+    for size in (1, 2, 3):
+        places = range(size)
+        kinds = list(itertools.product(places, places, (1, -1)))
+        for home, last in itertools.product(places, places):
+            yield (size, home, last, [])
+            for one in kinds:
+                yield (size, home, last, [one])
+                for other in kinds:
+                    yield (size, home, last, [one, other])
+
+
+def mixed_rings(seed, count, most, size):
+    """Rings of at most so many boxes, in places that no rule has chosen but the seed; some boxes stay."""
+    chance = random.Random(seed)
+    for number in range(count):
+        places = [chance.randrange(size) for _ in range(chance.randint(1, 9))]
+        ways = ((1,), (-1,), (1, -1))[number % 3]
+        boxes = []
+        for _ in range(chance.randint(0, most)):
+            boxes.append((chance.choice(places), chance.choice(places), chance.choice(ways)))
+        yield (size, chance.choice(places), chance.choice(places), boxes)
+
+
+def apart_rings(seed, count, size):
+    """Rings of pairs of boxes there and back on short ways: many gaps lack nothing, so that much hangs apart."""
+    chance = random.Random(seed)
+    for number in range(count):
+        boxes = []
+        for _ in range(chance.randint(1, 5)):
+            one = chance.randrange(size)
+            other = (one + chance.randint(0, 3)) % size
+            way = chance.choice((1, -1))
+            boxes.extend([(one, other, way), (other, one, -way)])
+        home = chance.randrange(size)
+        yield (size, home, home if number % 3 else chance.randrange(size), boxes)
+
+
+def far_rings():
+    """Rings with seventy boxes and of the greatest sizes."""
+    chance = random.Random(25)
+    for size in (71, 1000, 10 ** 12, FAR - 1, FAR):
+        for ways in ((1,), (-1,), (1, -1)):
+            boxes = []
+            for _ in range(70):
+                boxes.append((chance.randrange(size), chance.randrange(size), chance.choice(ways)))
+            yield (size, chance.randrange(size), chance.randrange(size), boxes)
+        yield from apart_rings(size, 3, size)
+        yield (size, 0, size - 1, [(number, number, 1) for number in range(70)])
+        yield (size, size - 1, 0, [(size - 1, 0, 1), (0, size - 1, -1)] * 35)
+        yield (size, 5, 5, [(number, (number - 1) % size, 1) for number in range(70)])
+        yield (size, 5, 5, [((number - 1) % size, number, -1) for number in range(70)])
+        yield (size, 0, 0, [(0, size - 1, 1)] * 70)
+        yield (size, size - 1, size - 1, [])
+        yield (size, size - 1, size - 1, [(size - 1, size - 1, -1)] * 70)
+    yield (FAR, 0, 0, [(number, number + 71, 1) for number in range(70)])
+    yield (FAR, 3, 9, [(number, number + 71, -1) for number in range(70)])
+    yield (142, 0, 141, [(number, number + 71, 1 - 2 * (number % 2)) for number in range(70)])
+
+
+def told_things():
+    """Tuples as texts tell them: of each kind, small and mixed ones, some with seventy boxes and forty figures."""
+    most = FAR - 1
+    for reach in (1, 9, 10 ** 12, most):
+        for errand in mixed_errands(reach + 26, 60, 6, reach):
+            yield ("rail", *errand)
+        for yard in mixed_yards(reach + 26, 60, 6, reach):
+            yield ("gate", *yard)
+    for size in (1, 2, 9, 10 ** 12, most):
+        for ring in mixed_rings(size + 26, 60, 6, size):
+            yield ("ring", *ring)
+    yield ("rail", -most, most, [(most - number, number - most) for number in range(70)])
+    yield ("gate", -most, [(most - number, number - most) for number in range(70)])
+    yield ("ring", most, 0, most - 1, [(most - 1 - number, number, 1 - 2 * (number % 2)) for number in range(70)])

@@ -73,6 +73,28 @@ class Language(unittest.TestCase):
             for word in WORDS_OUT:
                 self.assertIsNone(re.search(rf"\b{word}\b", text), f"{path.name}: {word}")
 
+    def test_the_top_of_each_module(self):
+        for path in FILES:
+            tree = ast.parse(path.read_text(encoding="utf-8"))
+            bound = []
+            for number, node in enumerate(tree.body):
+                where = f"{path.name}:{node.lineno}"
+                if isinstance(node, ast.Assign):
+                    # Raises where the value isn't a plain one.
+                    value = ast.literal_eval(node.value)
+                    self.assertNotIsInstance(value, (set, frozenset), where)
+                    inner = list(value.values()) if isinstance(value, dict) else value
+                    if isinstance(inner, list):
+                        self.assertFalse([one for one in inner if isinstance(one, (list, dict))], where)
+                    bound.append(node.targets[0].id)
+                elif isinstance(node, (ast.FunctionDef, ast.ClassDef)):
+                    bound.append(node.name)
+                elif isinstance(node, ast.ImportFrom):
+                    bound += [alias.asname or alias.name for alias in node.names]
+                else:
+                    self.assertTrue(number == 0 and isinstance(node.value, ast.Constant), where)
+            self.assertEqual(len(bound), len(set(bound)), path.name)
+
     def test_statements_and_expressions(self):
         for where, node in self.walk():
             self.assertNotIsInstance(node, NODES_OUT, where)
@@ -87,6 +109,11 @@ class Language(unittest.TestCase):
                 self.assertLessEqual(len(node.generators[0].ifs), 1, where)
             if isinstance(node, ast.Constant):
                 self.assertNotIsInstance(node.value, (float, complex, bytes), where)
+                if isinstance(node.value, str):
+                    self.assertNotIn("%", node.value, where)
+            if isinstance(node, ast.FormattedValue):
+                self.assertIsInstance(node.value, ast.Name, where)
+                self.assertIsNone(node.format_spec, where)
 
     def test_functions_and_classes(self):
         for where, node in self.walk():
